@@ -1,0 +1,1 @@
+"""Roundstore: a store whose versions bear numbers that go round."""
