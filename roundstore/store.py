@@ -1,9 +1,8 @@
 """A store: deeds write versions of rows under numbers that go round, freezings make room for new numbers."""
 
-from roundstore.errors import Busy, Late, Looked, NoDeed, NoHouse, NoName, NoNumber, NoRow, NoStore, NoTable
-from roundstore.errors import Stopped, Taken, Waits
+from roundstore.errors import Busy, Late, Looked, NoNumber, NoRow, NoStore, NoTable, Stopped, Waits
 from roundstore.kinds import is_number, is_store, is_whole, is_word, is_worth
-from roundstore.lookers import Looker
+from roundstore.lookers import Looker, Seats
 from roundstore.looks import low, sees
 from roundstore.marks import RING, STOP, WARN
 from roundstore.ring import eldest, on, steps
@@ -24,8 +23,7 @@ class Store:
         self.coming = first
         self.shelves = {table: [] for table in tables}
         self.eldests = {table: first for table in tables}
-        # Seats keep lookers that look no more till the next one sits down: see work.
-        self.seats = {}
+        self.seats = Seats()
         self.givers = {}
         self.log = []
         self.busy = False
@@ -47,8 +45,8 @@ class Store:
     def begin(self, name):
         """A deed begins, and looks."""
         self.check_idle()
-        self.check_free(name)
-        self.sit(Looker(name, "deed", self.look_now()))
+        self.seats.check_free(name)
+        self.seats.sit(Looker(name, "deed", self.look_now()))
         self.log.append("begin " + name)
 
     def put(self, name, table, key, worth):
@@ -81,7 +79,7 @@ class Store:
     def work(self, name, each):
         """A deed begins, each does its work, and it is done; it fell where something goes out of each."""
         self.begin(name)
-        deed = self.seats[name]
+        deed = self.seats.deed(name)
         outcome = "fell"
         try:
             told = each(name)
@@ -95,13 +93,13 @@ class Store:
 
     def rows(self, name, table):
         """The rows that this looker sees."""
-        looker = self.looker(name)
+        looker = self.seats.looker(name)
         shelf = self.shelf(table)
         return shown_among(shelf, looker.look, self.fates_in(shelf), looker.number, self.ring)
 
     def why(self, name, table, key):
         """The versions of a key, and of each whether this looker sees it, or why not."""
-        looker = self.looker(name)
+        looker = self.seats.looker(name)
         shelf = self.shelf(table)
         found = [version for version in shelf if version[0] == key] if is_word(key) else []
         return tuple([(version, self.state_for(looker, version)) for version in found])
@@ -118,7 +116,7 @@ class Store:
 
     def lookers(self):
         """Who looks, rising by name."""
-        return tuple(sorted([(one.name, one.kind, one.look, one.number) for one in self.standing()]))
+        return tuple(sorted([(one.name, one.kind, one.look, one.number) for one in self.seats.standing()]))
 
     def next(self):
         """The next number."""
@@ -127,12 +125,12 @@ class Store:
     def holders(self):
         """Who and what is at the floor."""
         floor = self.floor()
-        found = [(one.kind, one.name) for one in self.standing() if low(one.look) == floor]
+        found = [(one.kind, one.name) for one in self.seats.standing() if low(one.look) == floor]
         return tuple(sorted(found + [("table", table) for table in self.tables if self.eldests[table] == floor]))
 
     def horizon(self):
         """The eldest number that somebody may still look at as not done."""
-        lows = [low(one.look) for one in self.standing()]
+        lows = [low(one.look) for one in self.seats.standing()]
         return eldest((self.coming, *lows), ring=self.ring)
 
     def floor(self):
@@ -160,12 +158,11 @@ class Store:
         self.check_goal(table, goal)
         if most is not None and not (is_whole(most) and most >= 1):
             raise NoNumber(most)
-        fates = self.fates_in(shelf)
         changes = []
         place = 0
         while place < len(shelf):
             version = shelf[place]
-            now = frozen_among(version, goal, fates, self.ring)
+            now = self.frozen_now(version, goal)
             if now == version:
                 place += 1
             elif len(changes) == most:
@@ -180,29 +177,41 @@ class Store:
     def hold(self, name, *, like=None):
         """A far house begins to look, as of now, or as another looker does."""
         self.check_idle()
-        self.check_free(name)
-        look = self.look_now() if like is None else self.looker(like).look
-        self.sit(Looker(name, "house", look))
+        self.seats.check_free(name)
+        look = self.look_now() if like is None else self.seats.looker(like).look
+        self.seats.sit(Looker(name, "house", look))
         self.log.append("hold " + name if like is None else f"hold {name} {like}")
 
     def let(self, name):
         """A far house looks no more."""
         self.check_idle()
-        house = self.standing_as(name, "house")
-        if house is None:
-            raise NoHouse(name)
+        house = self.seats.house(name)
         house.end = "let"
         self.log.append("let " + name)
+
+    def turn_again(self, table, place, upto):
+        """One change of a freezing, as a row of a log tells it: refused where it is none."""
+        shelf = self.shelf(table)
+        self.check_goal(table, upto)
+        if not is_number(place, len(shelf)):
+            raise NoNumber(place)
+        now = self.frozen_now(shelf[place], upto)
+        if now == shelf[place]:
+            raise NoNumber(place)
+        self.turn(table, place, now, upto)
+
+    def lift_again(self, table, upto):
+        """The end of a freezing, as a row of a log tells it: refused where something is left to be changed."""
+        shelf = self.shelf(table)
+        self.check_goal(table, upto)
+        if any([self.frozen_now(version, upto) != version for version in shelf]):
+            raise NoNumber(upto)
+        self.lift(table, upto)
 
     def check_idle(self):
         """Refuses what would change the store while a freezing's each is asked."""
         if self.busy:
             raise Busy()
-
-    def check_free(self, name):
-        """Refuses what can't be a new looker's name."""
-        if not is_word(name) or name in [one.name for one in self.standing()]:
-            raise Taken(name)
 
     def check_goal(self, table, goal):
         """Refuses what a table can't be frozen up to."""
@@ -211,7 +220,7 @@ class Store:
             raise NoNumber(goal)
         horizon = self.horizon()
         if self.on_from(least, goal) > self.on_from(least, horizon):
-            raise Looked(min([one.name for one in self.standing() if low(one.look) == horizon]))
+            raise Looked(min([one.name for one in self.seats.standing() if low(one.look) == horizon]))
 
     def shelf(self, table):
         """The list of a table's versions."""
@@ -219,30 +228,15 @@ class Store:
             raise NoTable(table)
         return self.shelves[table]
 
-    def looker(self, name):
-        """Who looks by this name."""
-        for kind in ("deed", "house"):
-            found = self.standing_as(name, kind)
-            if found is not None:
-                return found
-        raise NoName(name)
-
-    def deed(self, name):
-        """The open deed of this name."""
-        found = self.standing_as(name, "deed")
-        if found is None:
-            raise NoDeed(name)
-        return found
-
     def writer(self, name, table, key, fit):
         """The deed that may write this key; fit is whether the worth is one."""
         self.check_idle()
-        deed = self.deed(name)
+        deed = self.seats.deed(name)
         shelf = self.shelf(table)
         if not is_word(key) or not fit:
             raise NoRow(key)
         # A version whose maker fell may be among them: it bears no other number, and so holds up nobody.
-        numbers = numbers_in([version for version in shelf if version[0] == key])
+        numbers = sorted(set(numbers_in([version for version in shelf if version[0] == key])))
         for number in numbers:
             if self.fate_of(number) == "open" and number != deed.number:
                 raise Waits(self.givers[number].name)
@@ -251,31 +245,16 @@ class Store:
                 raise Late(key)
         return deed
 
-    def sit(self, looker):
-        """Seats a new looker; those who look no more go."""
-        self.seats = {one.name: one for one in self.standing() + [looker]}
-
-    def standing(self):
-        """All who look now."""
-        return [one for one in self.seats.values() if one.end is None]
-
-    def standing_as(self, name, kind):
-        """Who of this kind looks by this name, or None."""
-        if not is_word(name):
-            return None
-        found = self.seats.get(name)
-        return found if found is not None and found.kind == kind and found.end is None else None
-
     def look_now(self):
         """The look of one who begins to look now."""
         floor = self.floor()
-        numbers = [one.number for one in self.standing() if one.number is not None]
-        return (self.coming, tuple(sorted(numbers, key=lambda number: self.on_from(floor, number))))
+        numbers = sorted(self.seats.numbers(), key=lambda number: self.on_from(floor, number))
+        return (self.coming, tuple(numbers))
 
     def end_deed(self, name, outcome):
         """A deed ends by a word."""
         self.check_idle()
-        deed = self.deed(name)
+        deed = self.seats.deed(name)
         deed.end = outcome
         self.log.append(outcome + " " + name)
 
@@ -327,7 +306,8 @@ class Store:
 
     def seen_place(self, deed, table, key):
         """The place of the version of this key that the deed sees, or None."""
-        for place, version in enumerate(self.shelves[table]):
+        # At most one is seen, and that mostly among the last ones.
+        for place, version in reversed(list(enumerate(self.shelves[table]))):
             if version[0] == key and self.state_for(deed, version) == "seen":
                 return place
         return None
@@ -335,6 +315,10 @@ class Store:
     def state_for(self, looker, version):
         """The state of a version for who looks."""
         return state_among(version, looker.look, self.fates_in([version]), looker.number, self.ring)
+
+    def frozen_now(self, version, goal):
+        """What freezing up to a number makes of a version now."""
+        return frozen_among(version, goal, self.fates_in([version]), self.ring)
 
     def fates_in(self, versions):
         """The fates of all numbers of the versions."""

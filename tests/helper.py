@@ -1,8 +1,13 @@
-"""What several tests need: things of any kind, a store's whole face, and a store by endless numbers."""
+"""What several tests need: things of any kind, a store's whole face, a store by endless numbers, random runs."""
 
+import random
 import unittest
 
 from roundstore.store import Store
+
+NAMES = ("anna", "bert", "carl", "dora", "emil")
+KEYS = ("a", "b", "c", "d")
+SIZES = ((8, 3, 2), (8, 2, 1), (10, 4, 4), (12, 5, 3), (16, 7, 4), (64, 28, 20))
 
 
 class Odd:
@@ -191,7 +196,7 @@ class Endless:
             for row in self.whole[table]:
                 if row[0] != key or self.fate[row[2]] == "fell":
                     continue
-                for number in [one for one in row[2:] if one is not None and self.fate[one] == word]:
+                for number in [one for one in row[2:4] if one is not None and self.fate[one] == word]:
                     if word == "open" and number != deed["number"]:
                         raise Refused("Waits", self.owner[number])
                     if word == "done" and not self.done_for(deed, number):
@@ -209,9 +214,9 @@ class Endless:
 
     def end_seen(self, deed, table, seen):
         for row in seen:
-            # By its worth a row is found again: the tests put each worth once.
+            # A row is the same one in both tables where it was put at the same time.
             for other in self.thin[table]:
-                if other[:2] == row[:2]:
+                if other[4] == row[4]:
                     other[3] = deed["number"]
             row[3] = deed["number"]
 
@@ -224,7 +229,7 @@ class Endless:
         self.give(name, deed)
         self.end_seen(deed, table, seen)
         for shelf in (self.whole, self.thin):
-            shelf[table].append([key, worth, deed["number"], None])
+            shelf[table].append([key, worth, deed["number"], None, len(self.log)])
         self.log.append(f"put {name} {table} {key} {worth}")
         return deed["number"]
 
@@ -264,14 +269,15 @@ class Endless:
         return thing % self.ring if type(thing) is int else thing
 
     def version(self, row):
-        return (row[0], row[1]) + self.round(row[2:])
+        return (row[0], row[1]) + self.round(row[2:4])
 
     def turned(self, row, upto):
         """What freezing makes of a row, None where it's swept."""
-        made, ended = [self.fate.get(number) for number in row[2:]]
-        if made == "fell" or (ended == "done" and row[3] < upto):
+        key, worth, maker, ender, at = row
+        made, ended = self.fate.get(maker), self.fate.get(ender)
+        if made == "fell" or (ended == "done" and ender < upto):
             return None
-        return row[:2] + [None if made == "done" and row[2] < upto else row[2], None if ended == "fell" else row[3]]
+        return [key, worth, None if made == "done" and maker < upto else maker, None if ended == "fell" else ender, at]
 
     def freeze(self, table, upto=None, most=None):
         horizon = self.horizon()
@@ -310,3 +316,77 @@ class Endless:
                   for table in self.tables),
             tuple((name, table, self.rows(name, table)) for name in lookers for table in self.tables),
         )
+
+
+class Run:
+    """A store and its endless twin, and a chance that is the same each time."""
+
+    def __init__(self, seed, tables, size, first):
+        ring, stop, warn = size
+        self.chance = random.Random(seed)
+        self.store = Store(tables, ring=ring, stop=stop, warn=warn, first=first)
+        self.twin = Endless(tables, ring, stop, warn, first)
+        self.worth = 0
+        self.done = 0
+
+    def pick(self):
+        """What is to be done next: the name of a door and what is handed in, upto by an endless number."""
+        chance, twin = self.chance, self.twin
+        deeds = [name for name, one in twin.lookers.items() if one["kind"] == "deed"]
+        houses = [name for name in twin.lookers if name not in deeds]
+        name = chance.choice(NAMES)
+        deed = chance.choice(deeds) if deeds and chance.random() < 0.9 else name
+        house = chance.choice(houses) if houses and chance.random() < 0.9 else name
+        table, key = chance.choice(twin.tables), chance.choice(KEYS)
+        self.worth += 1
+        # Where there is no room, more is ended and frozen, so that numbers go round often.
+        weights = (14, 26, 6, 14, 3, 2, 5, 12) if twin.coming - twin.floor() < twin.stop else (2, 5, 4, 12, 2, 1, 9, 15)
+        door = chance.choices(("begin", "put", "cut", "done", "fell", "hold", "let", "freeze"), weights)[0]
+        if not deeds and chance.random() < 0.6:
+            door = "begin"
+        return door, {
+            "begin": (name,), "put": (deed, table, key, self.worth), "cut": (deed, table, key), "done": (deed,),
+            "fell": (deed,), "hold": (name, chance.choice((None, None) + NAMES)), "let": (house,),
+            "freeze": (table, self.pick_upto(table), chance.choice((None, None, None, 1, 1, 2, 3))),
+        }[door]
+
+    def pick_upto(self, table):
+        if self.chance.random() < 0.6:
+            return None
+        return self.chance.randint(self.twin.eldest[table] - 1, self.twin.coming + 1)
+
+    def ask_store(self, door, handed):
+        if door == "hold":
+            return self.store.hold(handed[0], like=handed[1])
+        if door == "freeze":
+            return self.store.freeze(handed[0], upto=self.twin.round(handed[1]), most=handed[2])
+        return getattr(self.store, door)(*handed)
+
+    def told(self, ask, *handed):
+        """What is told, or the name of the refusal's class and its value."""
+        try:
+            return "told", ask(*handed)
+        except Refused as error:
+            return error.kind, error.value
+        except (ValueError, LookupError, RuntimeError, OverflowError) as error:
+            return type(error).__name__, list(vars(error).values())[0]
+
+
+def script(seed, many):
+    """Things to do that never come near a stop: each few numbers nobody looks any more, and all is frozen."""
+    chance = random.Random(seed)
+    found, here = [], []
+    for at in range(many):
+        name, key, table = chance.choice(NAMES[:3]), chance.choice(KEYS), chance.choice(("one", "two"))
+        found.append(("begin", name))
+        here.append(name)
+        for _ in range(4):
+            found.append(chance.choice((
+                ("put", chance.choice(here), table, key, at), ("put", chance.choice(here), table, key, -at),
+                ("cut", chance.choice(here), table, key), ("hold", "far"), ("let", "far"),
+                ("done", chance.choice(here)), ("fell", chance.choice(here)), ("freeze", table),
+            )))
+        if at % 5 == 4:
+            found += [("done", one) for one in NAMES[:3]] + [("let", "far"), ("freeze", "one"), ("freeze", "two")]
+            here = []
+    return found

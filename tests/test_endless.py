@@ -3,69 +3,11 @@
 import random
 import unittest
 
-from helper import Case, Endless, Refused, Whatever, face
+from helper import KEYS, NAMES, SIZES, Case, Refused, Run, Whatever, face, script
 from roundstore import errors
 from roundstore.looks import is_look
 from roundstore.ring import eldest, spread
 from roundstore.store import Store
-
-NAMES = ("anna", "bert", "carl", "dora", "emil")
-KEYS = ("a", "b", "c", "d")
-SIZES = ((8, 3, 2), (8, 2, 1), (10, 4, 4), (12, 5, 3), (16, 7, 4), (64, 28, 20))
-
-
-class Run:
-    """A store and its endless twin, and a chance that is the same each time."""
-
-    def __init__(self, seed, tables, size, first):
-        ring, stop, warn = size
-        self.chance = random.Random(seed)
-        self.store = Store(tables, ring=ring, stop=stop, warn=warn, first=first)
-        self.twin = Endless(tables, ring, stop, warn, first)
-        self.worth = 0
-        self.done = 0
-
-    def pick(self):
-        """What is to be done next: the name of a door and what is handed in, upto by an endless number."""
-        chance, twin = self.chance, self.twin
-        deeds = [name for name, one in twin.lookers.items() if one["kind"] == "deed"]
-        houses = [name for name in twin.lookers if name not in deeds]
-        name = chance.choice(NAMES)
-        deed = chance.choice(deeds) if deeds and chance.random() < 0.9 else name
-        house = chance.choice(houses) if houses and chance.random() < 0.9 else name
-        table, key = chance.choice(twin.tables), chance.choice(KEYS)
-        self.worth += 1
-        # Where there is no room, more is ended and frozen, so that numbers go round often.
-        weights = (14, 26, 6, 14, 3, 2, 5, 12) if twin.coming - twin.floor() < twin.stop else (2, 5, 4, 12, 2, 1, 9, 15)
-        door = chance.choices(("begin", "put", "cut", "done", "fell", "hold", "let", "freeze"), weights)[0]
-        if not deeds and chance.random() < 0.6:
-            door = "begin"
-        return door, {
-            "begin": (name,), "put": (deed, table, key, self.worth), "cut": (deed, table, key), "done": (deed,),
-            "fell": (deed,), "hold": (name, chance.choice((None, None) + NAMES)), "let": (house,),
-            "freeze": (table, self.pick_upto(table), chance.choice((None, None, None, 1, 1, 2, 3))),
-        }[door]
-
-    def pick_upto(self, table):
-        if self.chance.random() < 0.6:
-            return None
-        return self.chance.randint(self.twin.eldest[table] - 1, self.twin.coming + 1)
-
-    def ask_store(self, door, handed):
-        if door == "hold":
-            return self.store.hold(handed[0], like=handed[1])
-        if door == "freeze":
-            return self.store.freeze(handed[0], upto=self.twin.round(handed[1]), most=handed[2])
-        return getattr(self.store, door)(*handed)
-
-    def told(self, ask, *handed):
-        """What is told, or the name of the refusal's class and its value."""
-        try:
-            return "told", ask(*handed)
-        except Refused as error:
-            return error.kind, error.value
-        except (ValueError, LookupError, RuntimeError, OverflowError) as error:
-            return type(error).__name__, list(vars(error).values())[0]
 
 
 class Endlessly(Case):
@@ -126,26 +68,6 @@ class Endlessly(Case):
             ("let", "NoHouse"), ("let", "told"), ("freeze", "NoNumber"), ("freeze", "Looked"), ("freeze", "told"),
         ):
             self.assertGreater(met.get(outcome, 0), 5, outcome)
-
-
-def script(seed, many):
-    """Things to do that never come near a stop: each few numbers nobody looks any more, and all is frozen."""
-    chance = random.Random(seed)
-    found, here = [], []
-    for at in range(many):
-        name, key, table = chance.choice(NAMES[:3]), chance.choice(KEYS), chance.choice(("one", "two"))
-        found.append(("begin", name))
-        here.append(name)
-        for _ in range(4):
-            found.append(chance.choice((
-                ("put", chance.choice(here), table, key, at), ("put", chance.choice(here), table, key, -at),
-                ("cut", chance.choice(here), table, key), ("hold", "far"), ("let", "far"),
-                ("done", chance.choice(here)), ("fell", chance.choice(here)), ("freeze", table),
-            )))
-        if at % 5 == 4:
-            found += [("done", one) for one in NAMES[:3]] + [("let", "far"), ("freeze", "one"), ("freeze", "two")]
-            here = []
-    return found
 
 
 class Anywhere(Case):

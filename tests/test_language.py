@@ -18,6 +18,10 @@ INTERFACE = {
     "looks.py": ("is_look", "low", "sees"),
     "versions.py": ("state", "shown", "frozen"),
     "store.py": ("Store",),
+    "plans.py": ("worst", "fewest", "reached", "passes"),
+    "walk.py": ("Walk",),
+    "logs.py": ("come_up",),
+    "desk.py": ("Desk",),
 }
 METHODS = {
     "Store": (
@@ -25,6 +29,8 @@ METHODS = {
         "next", "holders", "horizon", "floor", "room", "eldest_of", "warned", "freeze", "hold", "let", "__str__",
         "__len__", "__repr__", "__eq__",
     ),
+    "Walk": ("__init__", "begin", "put", "cut", "done", "fell", "hold", "let", "rows"),
+    "Desk": ("__init__", "say"),
 }
 BARRED = (
     "type", "typing", "typing_extensions", "enum", "Enum", "IntEnum", "StrEnum", "Flag", "IntFlag", "Generic",
@@ -112,6 +118,15 @@ def is_last_row(node):
     return isinstance(node, ast.Pass)
 
 
+def is_plain(node, bound):
+    """Whether it may be assigned at module level: a plain value, or a table of such and of functions above."""
+    if isinstance(node, ast.Tuple):
+        return all(is_plain(one, bound) for one in node.elts)
+    if isinstance(node, ast.Dict):
+        return all(is_plain(one, bound) and not isinstance(one, ast.Dict) for one in node.keys + node.values)
+    return isinstance(node, ast.Constant) or (isinstance(node, ast.Name) and node.id in bound)
+
+
 class Language(unittest.TestCase):
     def test_l1_nothing_but_python_files(self):
         self.assertTrue((PACKAGE / "__init__.py").is_file())
@@ -162,7 +177,33 @@ class Language(unittest.TestCase):
         for name, node in nodes(ast.Try):
             for row in node.finalbody:
                 self.assertTrue(is_last_row(row), (name, row.lineno))
-            self.assertEqual(node.handlers, [], name)
+
+    def test_l19_handlers_name_own_errors(self):
+        for name, node in nodes(ast.ExceptHandler):
+            named = node.type.elts if isinstance(node.type, ast.Tuple) else [node.type]
+            for one in named:
+                self.assertIsInstance(one, ast.Name, name)
+                self.assertIn(one.id, INTERFACE["errors.py"], name)
+            self.assertIsNone(node.name, name)
+
+    def test_l3_l15_module_level(self):
+        for path, text in sources():
+            bound = []
+            for at, node in enumerate(ast.parse(text).body):
+                self.assertIsInstance(node, (ast.ImportFrom, ast.FunctionDef, ast.ClassDef, ast.Assign, ast.Expr), path)
+                if isinstance(node, ast.Expr):
+                    self.assertTrue(at == 0 and isinstance(node.value, ast.Constant), path)
+                if isinstance(node, ast.Assign):
+                    self.assertTrue(is_plain(node.value, bound), (path, node.lineno))
+                if isinstance(node, ast.FunctionDef):
+                    bound.append(node.name)
+
+    def test_l4_l5_functions_and_classes(self):
+        for name, node in nodes(ast.FunctionDef, ast.ClassDef):
+            self.assertEqual(node.decorator_list, [], name)
+        for name, node in nodes(ast.ClassDef):
+            for one in node.body:
+                self.assertIsInstance(one, (ast.FunctionDef, ast.Expr), name)
 
     def test_l7_values(self):
         for name, node in nodes(ast.Constant, ast.Div, ast.GeneratorExp, ast.Global, ast.AsyncFunctionDef, ast.Await):
